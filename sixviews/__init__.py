@@ -1,0 +1,1 @@
+"""Sixviews: drawings whose brushes can be undone."""
