@@ -1,0 +1,193 @@
+"""Points 2 to 4 and the interface: names, parameters, equality and the kinds of what is returned."""
+
+import doctest
+import importlib
+import inspect
+import pathlib
+import unittest
+
+from sixviews.cells import rising
+from sixviews.paths import Path
+from sixviews.pens import Pen
+from sixviews.sheets import Sheet
+from sixviews.spots import Spots
+from sixviews.turnings import Turning
+
+FUNCTIONS = {
+    "cells": [
+        "height(view, place)", "line_of(seam, place)", "dimension(cell)", "corners_of(cell)", "closure(cell)",
+        "star(cell)", "lowest(view, cell)", "highest(view, cell)", "rising(view, place)", "hanging(view, place)",
+    ],
+    "dividing": ["divided(spots, divisor)"],
+    "recipes": ["recipe(pen)", "cooked(counts)", "recipes(pen)"],
+    "mixed": ["mixed(first, second)", "spare(first, second)", "same_ratio(first, second)"],
+    "pairs": ["swept_cells(cell, other)"],
+    "sheets": ["joined(*sheets)", "swept(*sheets)", "turned_copies(sheet)"],
+    "rims": ["outline(sheet)"],
+    "cuts": [
+        "lower(sheet, seam, line=0)", "upper(sheet, seam, line=0)", "slice_at(sheet, seam, line=0)",
+        "band(sheet, seam, line=0)", "lower_pen(pen, seam, line=0)",
+    ],
+}
+
+METHODS = {
+    ("turnings", "Turning"): [
+        "__init__(self, turns=0, *, mirrored=False, inverted=False)", "coded(code)", "place_to(self, place)",
+        "cell_to(self, cell)", "view_to(self, view)", "seam_to(self, seam)", "then(self, other)", "back(self)",
+        "__eq__(self, other)",
+    ],
+    ("spots", "Spots"): [
+        "__init__(self, rows=())", "__iter__(self)", "__getitem__(self, at)", "__add__(self, other)",
+        "__sub__(self, other)", "__neg__(self)", "__mul__(self, other)", "__rmul__(self, other)",
+        "__eq__(self, other)", "__bool__(self)", "moved(self, dx, dy)", "turned(self, turning)", "sums(self, seam)",
+        "moment(self, seam)", "single(self)", "box(self)",
+    ],
+    ("pens", "Pen"): [
+        "__init__(self, reaches)", "corners(self)", "sides(self)", "dimension(self)", "__add__(self, other)",
+        "__sub__(self, other)", "__neg__(self)", "__mul__(self, other)", "__rmul__(self, other)",
+        "__eq__(self, other)", "__contains__(self, place)", "has(self, cell)", "moved(self, dx, dy)",
+        "turned(self, turning)", "around(places)", "unit(kind)", "even(size)", "of_sides(sides, x=0, y=0)",
+    ],
+    ("sheets", "Sheet"): [
+        "__init__(self, rows=())", "__iter__(self)", "__getitem__(self, at)", "__contains__(self, cell)",
+        "__add__(self, other)", "__sub__(self, other)", "__neg__(self)", "__mul__(self, other)",
+        "__rmul__(self, other)", "__pow__(self, other)", "__invert__(self)", "__eq__(self, other)",
+        "__bool__(self)", "raised(self, n)", "moved(self, dx, dy)", "turned(self, turning)", "text(self)",
+        "read(cls, text)", "of(cls, *cells)", "dot(x=0, y=0, *, ink=1)",
+    ],
+    ("paths", "Path"): [
+        "__init__(self, runs=())", "__add__(self, other)", "__mul__(self, other)", "__eq__(self, other)",
+        "back(self)", "knees(self)", "stations(self)", "text(self)", "read(cls, text)",
+    ],
+}
+
+PROPERTIES = {
+    ("turnings", "Turning"): ["code"],
+    ("spots", "Spots"): ["total", "many"],
+    ("pens", "Pen"): ["is_drawn", "area", "rim"],
+    ("sheets", "Sheet"): ["euler", "dots", "strokes", "triangles", "many"],
+    ("paths", "Path"): ["end", "steps", "is_straight"],
+}
+
+STATIC = [
+    (Turning, "coded"), (Pen, "around"), (Pen, "unit"), (Pen, "even"), (Pen, "of_sides"), (Sheet, "dot"),
+]
+OF_THE_CLASS = [(Sheet, "read"), (Sheet, "of"), (Path, "read")]
+
+THINGS = [Turning(), Spots([(0, 0, 1)]), Pen.even(1), Sheet.dot(), Path([(0, 1)])]
+
+
+class Agreeing:
+    """An object that says that it is equal to everything."""
+
+    def __eq__(self, other):
+        return True
+
+    def __ne__(self, other):
+        return False
+
+
+class InterfaceTest(unittest.TestCase):
+    def told(self, module, text, found):
+        """The parameters of what was found are as the interface writes them."""
+        name = text.split("(")[0]
+        self.assertEqual(name + str(inspect.signature(found)), text)
+        self.assertEqual(found.__module__, f"sixviews.{module}")
+
+    def test_functions(self):
+        for module, texts in FUNCTIONS.items():
+            place = importlib.import_module(f"sixviews.{module}")
+            for text in texts:
+                self.told(module, text, getattr(place, text.split("(")[0]))
+
+    def test_methods_stand_in_the_class_itself(self):
+        for (module, name), texts in METHODS.items():
+            owner = getattr(importlib.import_module(f"sixviews.{module}"), name)
+            self.assertEqual(owner.__module__, f"sixviews.{module}")
+            for text in texts:
+                method = vars(owner)[text.split("(")[0]]
+                self.told(module, text, getattr(method, "__func__", method))
+
+    def test_properties(self):
+        for (module, name), properties in PROPERTIES.items():
+            owner = getattr(importlib.import_module(f"sixviews.{module}"), name)
+            for word in properties:
+                self.assertIsInstance(vars(owner)[word], property, (name, word))
+
+    def test_static_and_class_methods(self):
+        for owner, name in STATIC:
+            self.assertIsInstance(vars(owner)[name], staticmethod)
+        for owner, name in OF_THE_CLASS:
+            self.assertIsInstance(vars(owner)[name], classmethod)
+
+    def test_generators(self):
+        from sixviews.recipes import recipes
+        from sixviews.sheets import turned_copies
+        for call in (recipes, turned_copies, Path.stations):
+            self.assertTrue(inspect.isgeneratorfunction(call))
+
+
+class EqualityTest(unittest.TestCase):
+    def test_objects_of_other_classes(self):
+        others = [None, 0, 1, "", "blank", (), [], {}, [(0, 0, 1)], ((0, 0, "d", 1),), (1,) * 6, True, Agreeing(), object()]
+        for thing in THINGS:
+            for other in others + [item for item in THINGS if item is not thing]:
+                self.assertIs(thing == other, False)
+                self.assertIs(thing != other, True)
+
+    def test_lists_of_the_same_items(self):
+        for thing in THINGS:
+            if hasattr(thing, "__iter__"):
+                self.assertIs(thing == list(thing), False)
+                self.assertIs(list(thing) == thing, False)
+                self.assertIs(thing != tuple(thing), True)
+        self.assertIs(Pen.even(1) == (1,) * 6, False)
+        self.assertIs(Path([(0, 1)]) == ((0, 1),), False)
+
+    def test_blank_objects_of_other_classes(self):
+        self.assertIs(Sheet() == Spots(), False)
+        self.assertIs(Spots() == Sheet(), False)
+        self.assertIs(Path() != Sheet(), True)
+
+    def test_the_same_object(self):
+        for thing in THINGS:
+            self.assertIs(thing == thing, True)
+            self.assertIs(thing != thing, False)
+
+
+class KindsOfResultsTest(unittest.TestCase):
+    def test_tuples(self):
+        pen, path = Pen.even(1), Path([(0, 1)])
+        spots = Spots([(0, 0, 1)])
+        for value in (
+            pen.corners(), pen.sides(), pen.reaches, pen.corners()[0], path.runs, path.runs[0], path.end,
+            spots.box(), spots.single(), Turning().place_to((0, 1)), Turning().cell_to((0, 1, "e")),
+        ):
+            self.assertIs(type(value), tuple)
+
+    def test_lists(self):
+        for value in (rising(0, (0, 0)), Spots([(0, 0, 1)]).sums(0), Path().knees()):
+            self.assertIs(type(value), list)
+
+    def test_items_are_tuples(self):
+        for items in (rising(0, (0, 0)), Spots([(0, 0, 1)]).sums(0), Path().knees(), Spots([(0, 0, 1)]), Sheet.dot()):
+            for item in items:
+                self.assertIs(type(item), tuple)
+
+    def test_lists_may_be_tuples(self):
+        self.assertEqual(Sheet(((0, 0, "d", 1),)), Sheet([(0, 0, "d", 1)]))
+        self.assertEqual(Spots(((0, 0, 1),)), Spots([(0, 0, 1)]))
+        self.assertEqual(Pen((1,) * 6), Pen([1] * 6))
+        self.assertEqual(Path(((0, 1),)), Path([(0, 1)]))
+
+
+class ReadmeTest(unittest.TestCase):
+    def test_examples(self):
+        readme = pathlib.Path(__file__).resolve().parent.parent / "README.md"
+        result = doctest.testfile(str(readme), module_relative=False)
+        self.assertGreater(result.attempted, 0)
+        self.assertEqual(result.failed, 0)
+
+
+if __name__ == "__main__":
+    unittest.main()
