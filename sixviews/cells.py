@@ -73,6 +73,11 @@ def corners_of(cell):
     return [(x + dx, y + dy) for dx, dy in _CORNERS[kind]]
 
 
+def lines_at(seam, cell):
+    """The line numbers of the corners of the cell at the seam, ascending, each once."""
+    return sorted(set([line_of(seam, corner) for corner in corners_of(cell)]))
+
+
 def cell_with(corners):
     """The cell that has these corners, which are ascending."""
     x, y = corners[0]

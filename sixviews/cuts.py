@@ -1,6 +1,6 @@
 """Sheets and pens cut along ruled lines."""
 
-from sixviews.cells import check_view, corners_of, line_of
+from sixviews.cells import check_view, lines_at
 from sixviews.errors import Nowhere
 from sixviews.pens import Pen, check_drawn
 from sixviews.sheets import Sheet
@@ -29,7 +29,7 @@ def band(sheet, seam, line=0):
 def _part(sheet, seam, is_wanted):
     """The ink on the cells of which the line numbers of the corners at the seam are wanted."""
     check_view(seam)
-    return Sheet([row for row in sheet if is_wanted(_lines_of(row, seam))])
+    return Sheet([(x, y, kind, ink) for x, y, kind, ink in sheet if is_wanted(lines_at(seam, (x, y, kind)))])
 
 
 def lower_pen(pen, seam, line=0):
@@ -44,9 +44,3 @@ def lower_pen(pen, seam, line=0):
     for near, far in ((seam + 1, seam + 2), (seam - 1, seam - 2)):
         reaches[near % 6] = min(reaches[near % 6], reaches[seam] + reaches[far % 6])
     return Pen(reaches)
-
-
-def _lines_of(row, seam):
-    """The line numbers of the corners of the cell at the seam, ascending, each once."""
-    x, y, kind, _ = row
-    return sorted(set([line_of(seam, corner) for corner in corners_of((x, y, kind))]))

@@ -2,6 +2,7 @@
 
 from heapq import heapify, heappop, heappush
 
+from sixviews.boxes import places_in
 from sixviews.errors import NoSpots, TooHeavy, Undivided
 from sixviews.spots import Spots
 
@@ -15,7 +16,7 @@ def divided(spots, divisor):
     if not spots:
         return Spots()
     box = _quotient_box(spots, divisor)
-    places = _places_in(box)
+    places = places_in(box)
     if places > _MOST_PLACES:
         raise TooHeavy(places)
     quotient, rest = _long_division(spots, divisor, box)
@@ -27,12 +28,6 @@ def divided(spots, divisor):
 def _quotient_box(spots, divisor):
     """The bounds (left, bottom, right, top) of the quotient box."""
     return tuple([of_spots - of_divisor for of_spots, of_divisor in zip(spots.box(), divisor.box())])
-
-
-def _places_in(box):
-    """The number of the places in the box."""
-    left, bottom, right, top = box
-    return max(0, right - left + 1) * max(0, top - bottom + 1)
 
 
 def _lies_in(box, x, y):

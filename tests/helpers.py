@@ -95,6 +95,19 @@ def rows_of_pen(reaches):
     return [(x, y, kind, 1) for x, y, kind in cells_in(reaches)]
 
 
+def walked_rows(runs):
+    """The rows of the sheet of the path with these runs, by point 29; a cell may have several rows."""
+    rows = [(0, 0, "d", 1)]
+    place = (0, 0)
+    for step, length in runs:
+        for _ in range(length):
+            before, place = place, (place[0] + STEP[step][0], place[1] + STEP[step][1])
+            own = before if step < 3 else place
+            rows.append((*own, "enw"[step % 3], 1))
+            rows.append((*place, "d", 1))
+    return rows
+
+
 def some_rows(seed, many=8, size=3):
     """Rows of a sheet, the same ones for the same seed."""
     dice = random.Random(seed)

@@ -7,11 +7,14 @@ import pathlib
 import unittest
 
 from sixviews.cells import rising
+from sixviews.erasers import pen_of
+from sixviews.norms import weights
 from sixviews.paths import Path
 from sixviews.pens import Pen
 from sixviews.sheets import Sheet
 from sixviews.spots import Spots
 from sixviews.turnings import Turning
+from sixviews.views import Views
 
 FUNCTIONS = {
     "cells": [
@@ -28,6 +31,12 @@ FUNCTIONS = {
         "lower(sheet, seam, line=0)", "upper(sheet, seam, line=0)", "slice_at(sheet, seam, line=0)",
         "band(sheet, seam, line=0)", "lower_pen(pen, seam, line=0)",
     ],
+    "reading": ["drawn(views)", "ink_at(views, cell)", "window(views, left, bottom, *, wide=4, high=4)"],
+    "filled": ["sheet_of(pen)", "inside_of(pen)"],
+    "corners": ["corner_sum(views)", "dot_spots(views)"],
+    "strokes": ["path_sheet(path)", "stroke(pen, path)", "stays(pen, path, cell)", "far_ink(pen, path, cell)"],
+    "erasers": ["counter(sheet)", "eraser(sheet)", "is_erasable(sheet)", "pen_of(sheet)"],
+    "norms": ["norm(sheet)", "weights(sheet)"],
 }
 
 METHODS = {
@@ -59,6 +68,12 @@ METHODS = {
         "__init__(self, runs=())", "__add__(self, other)", "__mul__(self, other)", "__eq__(self, other)",
         "back(self)", "knees(self)", "stations(self)", "text(self)", "read(cls, text)",
     ],
+    ("views", "Views"): [
+        "__init__(self, heaps)", "of_sheet(sheet)", "of_pen(pen)", "of_path(path)", "__iter__(self)",
+        "__getitem__(self, at)", "__add__(self, other)", "__sub__(self, other)", "__neg__(self)",
+        "__mul__(self, other)", "__rmul__(self, other)", "__invert__(self)", "__eq__(self, other)", "__bool__(self)",
+        "moved(self, dx, dy)", "turned(self, turning)", "broken(self)", "check(self)", "box(self)",
+    ],
 }
 
 PROPERTIES = {
@@ -71,10 +86,12 @@ PROPERTIES = {
 
 STATIC = [
     (Turning, "coded"), (Pen, "around"), (Pen, "unit"), (Pen, "even"), (Pen, "of_sides"), (Sheet, "dot"),
+    (Views, "of_sheet"), (Views, "of_pen"), (Views, "of_path"),
 ]
 OF_THE_CLASS = [(Sheet, "read"), (Sheet, "of"), (Path, "read")]
 
-THINGS = [Turning(), Spots([(0, 0, 1)]), Pen.even(1), Sheet.dot(), Path([(0, 1)])]
+VIEWS = Views.of_sheet(Sheet.dot())
+THINGS = [Turning(), Spots([(0, 0, 1)]), Pen.even(1), Sheet.dot(), Path([(0, 1)]), VIEWS]
 
 
 class Agreeing:
@@ -148,6 +165,8 @@ class EqualityTest(unittest.TestCase):
         self.assertIs(Sheet() == Spots(), False)
         self.assertIs(Spots() == Sheet(), False)
         self.assertIs(Path() != Sheet(), True)
+        self.assertIs(Views.of_sheet(Sheet()) == Sheet(), False)
+        self.assertIs(Sheet() != Views.of_sheet(Sheet()), True)
 
     def test_the_same_object(self):
         for thing in THINGS:
@@ -162,12 +181,15 @@ class KindsOfResultsTest(unittest.TestCase):
         for value in (
             pen.corners(), pen.sides(), pen.reaches, pen.corners()[0], path.runs, path.runs[0], path.end,
             spots.box(), spots.single(), Turning().place_to((0, 1)), Turning().cell_to((0, 1, "e")),
+            VIEWS.heaps, VIEWS.box(), weights(Sheet.dot()), pen_of(Sheet.dot()),
         ):
             self.assertIs(type(value), tuple)
 
     def test_lists(self):
-        for value in (rising(0, (0, 0)), Spots([(0, 0, 1)]).sums(0), Path().knees()):
+        broken = Views([Spots([(0, 0, 1)])] + [Spots()] * 5).broken()
+        for value in (rising(0, (0, 0)), Spots([(0, 0, 1)]).sums(0), Path().knees(), broken):
             self.assertIs(type(value), list)
+        self.assertIs(type(broken[0]), tuple)
 
     def test_items_are_tuples(self):
         for items in (rising(0, (0, 0)), Spots([(0, 0, 1)]).sums(0), Path().knees(), Spots([(0, 0, 1)]), Sheet.dot()):
@@ -179,6 +201,7 @@ class KindsOfResultsTest(unittest.TestCase):
         self.assertEqual(Spots(((0, 0, 1),)), Spots([(0, 0, 1)]))
         self.assertEqual(Pen((1,) * 6), Pen([1] * 6))
         self.assertEqual(Path(((0, 1),)), Path([(0, 1)]))
+        self.assertEqual(Views((Spots(),) * 6), Views([Spots()] * 6))
 
 
 class ReadmeTest(unittest.TestCase):

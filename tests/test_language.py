@@ -387,14 +387,14 @@ class ClassesTest(unittest.TestCase):
         for owner in self.classes():
             for method in owner.body:
                 if isinstance(method, ast.FunctionDef) and method.name == "__iter__":
-                    self.assertEqual(ast.unparse(method.body[-1]), "return iter(self._rows)")
+                    self.assertRegex(ast.unparse(method.body[-1]), r"\Areturn iter\(self\.\w+\)\Z")
                     self.assertEqual(len(method.body), 1)
                 if isinstance(method, ast.FunctionDef) and method.name == "__eq__":
                     self.assertEqual(len(method.body), 1)
                     start = f"return isinstance(other, {owner.name}) and self."
                     self.assertTrue(ast.unparse(method.body[0]).startswith(start))
                 if isinstance(method, ast.FunctionDef) and method.name == "__bool__":
-                    self.assertEqual(ast.unparse(method.body[-1]), "return bool(self._rows)")
+                    self.assertRegex(ast.unparse(method.body[-1]), r"\Areturn (bool\(self\._rows\)|any\(\[.+\]\))\Z")
 
     def test_attributes_and_methods_have_other_names(self):
         methods, special, attributes = set(), set(), set()
