@@ -1,7 +1,7 @@
 """Sheets and single inks, read from tables of views."""
 
 from sixviews.boxes import places_in
-from sixviews.cells import KINDS, check_kind, line_of, lines_at, rising
+from sixviews.cells import KINDS, line_of, lines_at, rising
 from sixviews.errors import BadSize, TooHeavy
 from sixviews.inks import gathered
 from sixviews.sheets import Sheet
@@ -55,9 +55,7 @@ def _add_risen(inks, x, y, left):
 def ink_at(views, cell):
     """The ink that the sheet with these views has on the cell."""
     views.check()
-    x, y, kind = cell
-    check_kind(kind)
-    return _inks_on(views, [(x, y, kind)])[0]
+    return _inks_on(views, [cell])[0]
 
 
 def window(views, left, bottom, *, wide=4, high=4):

@@ -8,10 +8,14 @@ import unittest
 
 from sixviews.cells import rising
 from sixviews.erasers import pen_of
+from sixviews.killers import blank_views
 from sixviews.norms import weights
 from sixviews.paths import Path
 from sixviews.pens import Pen
+from sixviews.rows import Row
+from sixviews.shadows import shadows
 from sixviews.sheets import Sheet
+from sixviews.splits import parted
 from sixviews.spots import Spots
 from sixviews.turnings import Turning
 from sixviews.views import Views
@@ -37,6 +41,12 @@ FUNCTIONS = {
     "strokes": ["path_sheet(path)", "stroke(pen, path)", "stays(pen, path, cell)", "far_ink(pen, path, cell)"],
     "erasers": ["counter(sheet)", "eraser(sheet)", "is_erasable(sheet)", "pen_of(sheet)"],
     "norms": ["norm(sheet)", "weights(sheet)"],
+    "quotients": ["quotient(sheet, divisor)", "any_quotient(sheet, divisor)"],
+    "rows": ["row_eraser(row)"],
+    "shadows": ["shadow(sheet, seam)", "shadows(sheet)", "lift(rows)", "shadow_of_pen(pen, seam)"],
+    "tufts": ["tuft(view, place)", "tufted(view, spots)", "seen_alone(sheet)", "spots_of(sheet, view)"],
+    "splits": ["parted(sheet)", "put_together(rows, heaps)"],
+    "killers": ["blank_views(sheet)", "sweep_is_blank(first, second)", "killer(sheet)"],
 }
 
 METHODS = {
@@ -74,6 +84,12 @@ METHODS = {
         "__mul__(self, other)", "__rmul__(self, other)", "__invert__(self)", "__eq__(self, other)", "__bool__(self)",
         "moved(self, dx, dy)", "turned(self, turning)", "broken(self)", "check(self)", "box(self)",
     ],
+    ("rows", "Row"): [
+        "__init__(self, marks=())", "__iter__(self)", "__getitem__(self, at)", "__add__(self, other)",
+        "__sub__(self, other)", "__neg__(self)", "__mul__(self, other)", "__rmul__(self, other)", "__invert__(self)",
+        "__eq__(self, other)", "__bool__(self)", "moved(self, by)", "flipped(self)", "ahead(self)", "behind(self)",
+        "of_ends(ahead, behind)", "stretch(low, high)",
+    ],
 }
 
 PROPERTIES = {
@@ -82,16 +98,17 @@ PROPERTIES = {
     ("pens", "Pen"): ["is_drawn", "area", "rim"],
     ("sheets", "Sheet"): ["euler", "dots", "strokes", "triangles", "many"],
     ("paths", "Path"): ["end", "steps", "is_straight"],
+    ("rows", "Row"): ["euler", "dots", "gaps", "many"],
 }
 
 STATIC = [
     (Turning, "coded"), (Pen, "around"), (Pen, "unit"), (Pen, "even"), (Pen, "of_sides"), (Sheet, "dot"),
-    (Views, "of_sheet"), (Views, "of_pen"), (Views, "of_path"),
+    (Views, "of_sheet"), (Views, "of_pen"), (Views, "of_path"), (Row, "of_ends"), (Row, "stretch"),
 ]
 OF_THE_CLASS = [(Sheet, "read"), (Sheet, "of"), (Path, "read")]
 
 VIEWS = Views.of_sheet(Sheet.dot())
-THINGS = [Turning(), Spots([(0, 0, 1)]), Pen.even(1), Sheet.dot(), Path([(0, 1)]), VIEWS]
+THINGS = [Turning(), Spots([(0, 0, 1)]), Pen.even(1), Sheet.dot(), Path([(0, 1)]), VIEWS, Row([(0, "d", 1)])]
 
 
 class Agreeing:
@@ -167,6 +184,8 @@ class EqualityTest(unittest.TestCase):
         self.assertIs(Path() != Sheet(), True)
         self.assertIs(Views.of_sheet(Sheet()) == Sheet(), False)
         self.assertIs(Sheet() != Views.of_sheet(Sheet()), True)
+        self.assertIs(Row() == Sheet(), False)
+        self.assertIs(Spots() != Row(), True)
 
     def test_the_same_object(self):
         for thing in THINGS:
@@ -181,18 +200,23 @@ class KindsOfResultsTest(unittest.TestCase):
         for value in (
             pen.corners(), pen.sides(), pen.reaches, pen.corners()[0], path.runs, path.runs[0], path.end,
             spots.box(), spots.single(), Turning().place_to((0, 1)), Turning().cell_to((0, 1, "e")),
-            VIEWS.heaps, VIEWS.box(), weights(Sheet.dot()), pen_of(Sheet.dot()),
+            VIEWS.heaps, VIEWS.box(), weights(Sheet.dot()), pen_of(Sheet.dot()), shadows(Sheet()), parted(Sheet()),
+            parted(Sheet())[0], parted(Sheet())[1],
         ):
             self.assertIs(type(value), tuple)
 
     def test_lists(self):
         broken = Views([Spots([(0, 0, 1)])] + [Spots()] * 5).broken()
-        for value in (rising(0, (0, 0)), Spots([(0, 0, 1)]).sums(0), Path().knees(), broken):
+        ends = [Row.stretch(0, 1).ahead(), Row.stretch(0, 1).behind()]
+        values = (rising(0, (0, 0)), Spots([(0, 0, 1)]).sums(0), Path().knees(), broken, blank_views(Sheet()), *ends)
+        for value in values:
             self.assertIs(type(value), list)
-        self.assertIs(type(broken[0]), tuple)
+        for value in (broken[0], ends[0][0], ends[1][0]):
+            self.assertIs(type(value), tuple)
 
     def test_items_are_tuples(self):
-        for items in (rising(0, (0, 0)), Spots([(0, 0, 1)]).sums(0), Path().knees(), Spots([(0, 0, 1)]), Sheet.dot()):
+        heap = Spots([(0, 0, 1)])
+        for items in (rising(0, (0, 0)), heap.sums(0), Path().knees(), heap, Sheet.dot(), Row.stretch(0, 3)):
             for item in items:
                 self.assertIs(type(item), tuple)
 
@@ -202,6 +226,7 @@ class KindsOfResultsTest(unittest.TestCase):
         self.assertEqual(Pen((1,) * 6), Pen([1] * 6))
         self.assertEqual(Path(((0, 1),)), Path([(0, 1)]))
         self.assertEqual(Views((Spots(),) * 6), Views([Spots()] * 6))
+        self.assertEqual(Row(((0, "d", 1),)), Row([(0, "d", 1)]))
 
 
 class ReadmeTest(unittest.TestCase):
