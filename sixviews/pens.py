@@ -127,21 +127,27 @@ def check_drawn(pen):
 def inner_cells(pen):
     """The cells that lie inside the drawn pen, ascending; it goes through the box of its corners."""
     reaches = pen.reaches
-    cells = [
-        (x, y, kind)
+    edges = {
+        (x, y): _edges_at(pen, (x, y))
         for x in range(-reaches[2], reaches[5] + 1)
         for y in range(-reaches[4], reaches[1] + 1)
-        for kind in KINDS
+        if (x, y) in pen
+    }
+    return [(x, y, kind) for x, y in edges for kind in KINDS if _is_inner(corners_of((x, y, kind)), edges)]
+
+
+def _edges_at(pen, place):
+    """The seams at which the place lies on a border of the pen on which not the whole pen lies."""
+    return [
+        seam for seam, reach in enumerate(pen.reaches) if line_of(seam, place) == reach and _width(pen, seam) > 0
     ]
-    return [cell for cell in cells if pen.has(cell) and not _on_border(pen, corners_of(cell))]
 
 
-def _on_border(pen, corners):
-    """True if all corners lie on one side of the drawn pen, on which not the whole pen lies."""
-    for seam, reach in enumerate(pen.reaches):
-        if _width(pen, seam) > 0 and all([line_of(seam, corner) == reach for corner in corners]):
-            return True
-    return False
+def _is_inner(corners, edges):
+    """True if the corners all lie in the pen and not all on one border; edges tells the borders of its places."""
+    if not all([corner in edges for corner in corners]):
+        return False
+    return not any([all([seam in edges[corner] for corner in corners]) for seam in edges[corners[0]]])
 
 
 def _width(pen, seam):

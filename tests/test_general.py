@@ -6,13 +6,19 @@ import inspect
 import pathlib
 import unittest
 
+from sixviews.blends import Blend
 from sixviews.cells import rising
+from sixviews.digests import Digest
 from sixviews.erasers import pen_of
+from sixviews.forms import Form
+from sixviews.growth import dot_growth
+from sixviews.judging import one_to_one, test_sheets
 from sixviews.killers import blank_views
 from sixviews.norms import weights
 from sixviews.paths import Path
 from sixviews.pens import Pen
 from sixviews.rows import Row
+from sixviews.scripts import Script
 from sixviews.shadows import shadows
 from sixviews.sheets import Sheet
 from sixviews.splits import parted
@@ -47,6 +53,12 @@ FUNCTIONS = {
     "tufts": ["tuft(view, place)", "tufted(view, spots)", "seen_alone(sheet)", "spots_of(sheet, view)"],
     "splits": ["parted(sheet)", "put_together(rows, heaps)"],
     "killers": ["blank_views(sheet)", "sweep_is_blank(first, second)", "killer(sheet)"],
+    "growth": ["dot_growth(sheet, pen)", "stroke_growth(sheet, pen)", "triangle_growth(sheet, pen)"],
+    "tables": ["count_table(sheets)"],
+    "judging": [
+        "test_sheets()", "parting(first, second)", "one_to_one(form)", "is_onto(form)", "left_alone(form)",
+        "is_settled(form)",
+    ],
 }
 
 METHODS = {
@@ -90,6 +102,26 @@ METHODS = {
         "__eq__(self, other)", "__bool__(self)", "moved(self, by)", "flipped(self)", "ahead(self)", "behind(self)",
         "of_ends(ahead, behind)", "stretch(low, high)",
     ],
+    ("digests", "Digest"): [
+        "__init__(self, euler, moments, triangles)", "of_sheet(sheet)", "of_pen(pen)", "of_path(path)", "of_views(views)",
+        "__add__(self, other)", "__sub__(self, other)", "__neg__(self)", "__mul__(self, other)", "__rmul__(self, other)",
+        "raised(self, n)", "__pow__(self, other)", "__eq__(self, other)", "turned(self, turning)",
+    ],
+    ("growth", "Growth"): [
+        "__call__(self, n)", "__add__(self, other)", "__sub__(self, other)", "__eq__(self, other)", "text(self)",
+    ],
+    ("scripts", "Script"): [
+        "__init__(self, deeds=())", "__iter__(self)", "__call__(self, sheet)", "stages(self, sheet)",
+        "__add__(self, other)", "__mul__(self, other)", "__eq__(self, other)", "text(self)", "read(cls, text)",
+    ],
+    ("forms", "Form"): [
+        "__init__(self, turning, gain, laid)", "of_script(script)", "__call__(self, sheet)", "then(self, other)",
+        "__eq__(self, other)", "back(self)",
+    ],
+    ("blends", "Blend"): [
+        "__init__(self, gains, laid)", "__getitem__(self, at)", "__iter__(self)", "of_script(script)", "of_form(form)",
+        "__call__(self, sheet)", "__add__(self, other)", "then(self, other)", "__eq__(self, other)",
+    ],
 }
 
 PROPERTIES = {
@@ -99,16 +131,28 @@ PROPERTIES = {
     ("sheets", "Sheet"): ["euler", "dots", "strokes", "triangles", "many"],
     ("paths", "Path"): ["end", "steps", "is_straight"],
     ("rows", "Row"): ["euler", "dots", "gaps", "many"],
+    ("digests", "Digest"): ["euler", "triangles", "rim", "dots", "strokes"],
+    ("growth", "Growth"): ["halves"],
+    ("scripts", "Script"): ["is_plain"],
+    ("blends", "Blend"): ["many"],
 }
 
 STATIC = [
     (Turning, "coded"), (Pen, "around"), (Pen, "unit"), (Pen, "even"), (Pen, "of_sides"), (Sheet, "dot"),
     (Views, "of_sheet"), (Views, "of_pen"), (Views, "of_path"), (Row, "of_ends"), (Row, "stretch"),
+    (Digest, "of_sheet"), (Digest, "of_pen"), (Digest, "of_path"), (Digest, "of_views"), (Form, "of_script"),
+    (Blend, "of_script"), (Blend, "of_form"),
 ]
-OF_THE_CLASS = [(Sheet, "read"), (Sheet, "of"), (Path, "read")]
+OF_THE_CLASS = [(Sheet, "read"), (Sheet, "of"), (Path, "read"), (Script, "read")]
 
 VIEWS = Views.of_sheet(Sheet.dot())
-THINGS = [Turning(), Spots([(0, 0, 1)]), Pen.even(1), Sheet.dot(), Path([(0, 1)]), VIEWS, Row([(0, "d", 1)])]
+SCRIPT = Script([("turn", 1)])
+GROWTH = dot_growth(Sheet.dot(), Pen.even(1))
+DIGEST = Digest(1, [0] * 6, 0)
+THINGS = [
+    Turning(), Spots([(0, 0, 1)]), Pen.even(1), Sheet.dot(), Path([(0, 1)]), VIEWS, Row([(0, "d", 1)]), DIGEST, GROWTH,
+    SCRIPT, Form.of_script(SCRIPT), Blend.of_script(SCRIPT),
+]
 
 
 class Agreeing:
@@ -157,7 +201,7 @@ class InterfaceTest(unittest.TestCase):
     def test_generators(self):
         from sixviews.recipes import recipes
         from sixviews.sheets import turned_copies
-        for call in (recipes, turned_copies, Path.stations):
+        for call in (recipes, turned_copies, Path.stations, Script.stages):
             self.assertTrue(inspect.isgeneratorfunction(call))
 
 
@@ -186,6 +230,9 @@ class EqualityTest(unittest.TestCase):
         self.assertIs(Sheet() != Views.of_sheet(Sheet()), True)
         self.assertIs(Row() == Sheet(), False)
         self.assertIs(Spots() != Row(), True)
+        self.assertIs(Script() == (), False)
+        self.assertIs(DIGEST == (1, (0,) * 6, 0), False)
+        self.assertIs(Form.of_script(SCRIPT) == Blend.of_script(SCRIPT), False)
 
     def test_the_same_object(self):
         for thing in THINGS:
@@ -201,14 +248,16 @@ class KindsOfResultsTest(unittest.TestCase):
             pen.corners(), pen.sides(), pen.reaches, pen.corners()[0], path.runs, path.runs[0], path.end,
             spots.box(), spots.single(), Turning().place_to((0, 1)), Turning().cell_to((0, 1, "e")),
             VIEWS.heaps, VIEWS.box(), weights(Sheet.dot()), pen_of(Sheet.dot()), shadows(Sheet()), parted(Sheet()),
-            parted(Sheet())[0], parted(Sheet())[1],
+            parted(Sheet())[0], parted(Sheet())[1], DIGEST.moments, GROWTH.halves, SCRIPT.deeds, SCRIPT.deeds[0],
+            one_to_one(Form(Turning(), Sheet(), Sheet())),
         ):
             self.assertIs(type(value), tuple)
 
     def test_lists(self):
         broken = Views([Spots([(0, 0, 1)])] + [Spots()] * 5).broken()
         ends = [Row.stretch(0, 1).ahead(), Row.stretch(0, 1).behind()]
-        values = (rising(0, (0, 0)), Spots([(0, 0, 1)]).sums(0), Path().knees(), broken, blank_views(Sheet()), *ends)
+        values = [rising(0, (0, 0)), Spots([(0, 0, 1)]).sums(0), Path().knees(), broken, blank_views(Sheet())] + ends
+        values.append(test_sheets())
         for value in values:
             self.assertIs(type(value), list)
         for value in (broken[0], ends[0][0], ends[1][0]):
@@ -216,7 +265,8 @@ class KindsOfResultsTest(unittest.TestCase):
 
     def test_items_are_tuples(self):
         heap = Spots([(0, 0, 1)])
-        for items in (rising(0, (0, 0)), heap.sums(0), Path().knees(), heap, Sheet.dot(), Row.stretch(0, 3)):
+        lists = [rising(0, (0, 0)), heap.sums(0), Path().knees(), heap, Sheet.dot(), Row.stretch(0, 3)]
+        for items in lists + [SCRIPT, Blend.of_script(SCRIPT)]:
             for item in items:
                 self.assertIs(type(item), tuple)
 
@@ -227,6 +277,9 @@ class KindsOfResultsTest(unittest.TestCase):
         self.assertEqual(Path(((0, 1),)), Path([(0, 1)]))
         self.assertEqual(Views((Spots(),) * 6), Views([Spots()] * 6))
         self.assertEqual(Row(((0, "d", 1),)), Row([(0, "d", 1)]))
+        self.assertEqual(Digest(1, (1,) * 6, 2), Digest(1, [1] * 6, 2))
+        self.assertEqual(Script((("turn", 1),)), SCRIPT)
+        self.assertEqual(Blend((Sheet(),) * 24, Sheet()), Blend([Sheet()] * 24, Sheet()))
 
 
 class ReadmeTest(unittest.TestCase):

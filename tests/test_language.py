@@ -33,6 +33,8 @@ DOUBLE = set(
     " __rmul__ __rfloordiv__ __rmod__ __rand__ __ror__ __rxor__ __neg__ __pos__ __invert__ __abs__ __bool__ __contains__"
     " __getitem__ __setitem__".split()
 )
+# The methods of these names may change what they like.
+FREE = ("__init__", "__call__", "__setitem__")
 STATEMENTS = (
     ast.Assign, ast.AugAssign, ast.AnnAssign, ast.If, ast.While, ast.For, ast.Return, ast.Break, ast.Continue, ast.Pass,
     ast.Raise, ast.Assert, ast.Delete, ast.Nonlocal, ast.With, ast.Try, ast.Expr, ast.FunctionDef, ast.ClassDef,
@@ -103,6 +105,8 @@ def own_names(function):
             names.append(node.arg)
         if isinstance(node, ast.Name) and isinstance(node.ctx, ast.Store):
             names.append(node.id)
+        if isinstance(node, ast.ExceptHandler) and node.name:
+            names.append(node.name)
         if isinstance(node, ast.FunctionDef) and node is not function:
             names.append(node.name)
     return names
@@ -436,7 +440,7 @@ class OperatorsTest(unittest.TestCase):
         waiting = [
             entry for entries in by_name.values() for entry in entries
             if entry[1] is not None
-            and ((entry[2].name in DOUBLE and entry[2].name != "__init__") or has_decorator(entry[2], "property"))
+            and ((entry[2].name in DOUBLE and entry[2].name not in FREE) or has_decorator(entry[2], "property"))
         ]
         found = []
         while waiting:
