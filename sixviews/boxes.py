@@ -20,3 +20,9 @@ def places_in(box):
         return 0
     left, bottom, right, top = box
     return max(0, right - left + 1) * max(0, top - bottom + 1)
+
+
+def lies_in(box, x, y):
+    """True if the place (x, y) lies in the box."""
+    left, bottom, right, top = box
+    return left <= x <= right and bottom <= y <= top

@@ -1,6 +1,6 @@
 """Digests: the counts of sheets that need not be made."""
 
-from sixviews.cells import dimension, line_of, lines_at
+from sixviews.cells import KINDS, dimension, line_of, lines_at
 from sixviews.errors import BadCount, BadPower, OddDigest
 from sixviews.views import Views
 
@@ -93,6 +93,8 @@ class Digest:
         )
 
     def __rmul__(self, other):
+        if not isinstance(other, int):
+            return NotImplemented
         return self * other
 
     def __pow__(self, other):
@@ -130,8 +132,9 @@ class Digest:
 
 def _moment_of(sheet, seam):
     """The sum of ink times least line number, with the opposite sign for strokes."""
-    terms = [(dimension((x, y, kind)), ink * lines_at(seam, (x, y, kind))[0]) for x, y, kind, ink in sheet]
-    return sum([-term if size == 1 else term for size, term in terms])
+    least = {kind: lines_at(seam, (0, 0, kind))[0] for kind in KINDS}
+    signs = {kind: -1 if dimension((0, 0, kind)) == 1 else 1 for kind in KINDS}
+    return sum([signs[kind] * ink * (line_of(seam, (x, y)) + least[kind]) for x, y, kind, ink in sheet])
 
 
 def _moments_of(views):

@@ -2,7 +2,7 @@
 
 from heapq import heapify, heappop, heappush
 
-from sixviews.boxes import places_in
+from sixviews.boxes import lies_in, places_in
 from sixviews.errors import NoSpots, TooHeavy, Undivided
 from sixviews.spots import Spots
 
@@ -15,7 +15,7 @@ def divided(spots, divisor):
         raise NoSpots()
     if not spots:
         return Spots()
-    box = _quotient_box(spots, divisor)
+    box = quotient_box(spots, divisor)
     places = places_in(box)
     if places > _MOST_PLACES:
         raise TooHeavy(places)
@@ -25,15 +25,9 @@ def divided(spots, divisor):
     return quotient
 
 
-def _quotient_box(spots, divisor):
+def quotient_box(spots, divisor):
     """The bounds (left, bottom, right, top) of the quotient box."""
     return tuple([of_spots - of_divisor for of_spots, of_divisor in zip(spots.box(), divisor.box())])
-
-
-def _lies_in(box, x, y):
-    """True if the place (x, y) lies in the box."""
-    left, bottom, right, top = box
-    return left <= x <= right and bottom <= y <= top
 
 
 def _long_division(spots, divisor, box):
@@ -50,7 +44,7 @@ def _long_division(spots, divisor, box):
         if ink == 0:
             continue
         x, y = -minus_x - last_x, -minus_y - last_y
-        if ink % lead != 0 or not _lies_in(box, x, y):
+        if ink % lead != 0 or not lies_in(box, x, y):
             break
         factor = ink // lead
         found.append((x, y, factor))

@@ -92,6 +92,8 @@ class Pen:
         return Pen([reach * other for reach in self.reaches])
 
     def __rmul__(self, other):
+        if not isinstance(other, int):
+            return NotImplemented
         return self * other
 
     def __eq__(self, other):

@@ -91,6 +91,8 @@ class Row:
         ])
 
     def __rmul__(self, other):
+        if not isinstance(other, int):
+            return NotImplemented
         return self * other
 
     def __invert__(self):

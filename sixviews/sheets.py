@@ -85,6 +85,8 @@ class Sheet:
         return sweep_of(self, other)
 
     def __rmul__(self, other):
+        if not isinstance(other, int):
+            return NotImplemented
         return self * other
 
     def __pow__(self, other):

@@ -51,6 +51,8 @@ class Spots:
         return Spots(multiplied(self._rows, other._rows))
 
     def __rmul__(self, other):
+        if not isinstance(other, int):
+            return NotImplemented
         return self * other
 
     @property

@@ -65,6 +65,8 @@ class Views:
         return Views([mine * its for mine, its in zip(self.heaps, other.heaps)])
 
     def __rmul__(self, other):
+        if not isinstance(other, int):
+            return NotImplemented
         return self * other
 
     def __invert__(self):

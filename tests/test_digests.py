@@ -249,6 +249,14 @@ class SumsAndProductsTest(unittest.TestCase):
             self.assertEqual(digest, Digest.of_pen(Pen.even(1)))
 
 
+    def test_other_operands(self):
+        digest = Digest.of_pen(Pen.even(1))
+        for other in (None, "1", [1], Sheet.dot()):
+            refusal(self, TypeError, lambda: digest + other)
+            refusal(self, TypeError, lambda: digest - other)
+            refusal(self, TypeError, lambda: digest * other)
+
+
 class CarriedTest(unittest.TestCase):
     def test_turned_sheets(self):
         for sheet in SHEETS:

@@ -8,6 +8,7 @@ import unittest
 
 from sixviews.blends import Blend
 from sixviews.cells import rising
+from sixviews.desks import Desk
 from sixviews.digests import Digest
 from sixviews.erasers import pen_of
 from sixviews.forms import Form
@@ -58,6 +59,15 @@ FUNCTIONS = {
     "judging": [
         "test_sheets()", "parting(first, second)", "one_to_one(form)", "is_onto(form)", "left_alone(form)",
         "is_settled(form)",
+    ],
+    "drawings": ["tried(drawing, name, **sheets)"],
+    "wholes": ["views_of(drawing, name)", "digest_of(drawing, name)", "shadow_of(drawing, name, seam)"],
+    "effects": [
+        "effect_of(drawing, slot, name)", "unseen(drawing, slot, name, sheet)", "told_back(drawing, slot, name, sheet)",
+    ],
+    "plain": ["plain_sweep(first, second)", "plain_view(sheet, view)"],
+    "making": [
+        "erase_paper(sheet)", "kill_paper(sheet)", "quotient_paper(sheet, divisor)", "script_paper(first, second)",
     ],
 }
 
@@ -122,6 +132,27 @@ METHODS = {
         "__init__(self, gains, laid)", "__getitem__(self, at)", "__iter__(self)", "of_script(script)", "of_form(form)",
         "__call__(self, sheet)", "__add__(self, other)", "then(self, other)", "__eq__(self, other)",
     ],
+    ("drawings", "Drawing"): [
+        "__init__(self)", "slot(self, name, sheet)", "layer(self, name, deed)", "__getitem__(self, at)",
+        "__setitem__(self, at, worth)", "change(self, name, sheet)", "fill(self, **sheets)", "__iter__(self)",
+        "__contains__(self, name)", "deed(self, name)",
+    ],
+    ("desks", "Desk"): [
+        "__init__(self)", "slot(self, name, sheet)", "layer(self, name, deed)", "put(self, name, sheet)", "undo(self)",
+        "redo(self)", "set_depth(self, depth)", "journal(self)", "read(cls, text)",
+    ],
+    ("papers", "Paper"): ["holds(self)"],
+    ("papers", "SweepPaper"): ["__init__(self, first, second, result)", "holds(self)"],
+    ("papers", "ErasePaper"): ["__init__(self, first, second)", "holds(self)"],
+    ("papers", "QuotientPaper"): ["__init__(self, sheet, divisor, quotient)", "holds(self)"],
+    ("papers", "ViewPaper"): ["__init__(self, sheet, view)", "holds(self)"],
+    ("papers", "StubbornPaper"): ["__init__(self, sheet, view)", "holds(self)"],
+    ("papers", "BlankPaper"): ["__init__(self, sheet, view)", "holds(self)"],
+    ("papers", "KillPaper"): ["__init__(self, sheet, killer, view)", "holds(self)"],
+    ("papers", "RestPaper"): ["__init__(self, sheet, divisor, view, quotient, rest)", "holds(self)"],
+    ("papers", "SeamPaper"): ["__init__(self, sheet, divisor, seam, low_heap, high_heap, line)", "holds(self)"],
+    ("papers", "AlikePaper"): ["__init__(self, first, second)", "holds(self)"],
+    ("papers", "PartingPaper"): ["__init__(self, first, second, sheet)", "holds(self)"],
 }
 
 PROPERTIES = {
@@ -135,6 +166,8 @@ PROPERTIES = {
     ("growth", "Growth"): ["halves"],
     ("scripts", "Script"): ["is_plain"],
     ("blends", "Blend"): ["many"],
+    ("drawings", "Drawing"): ["slots", "layers"],
+    ("desks", "Desk"): ["undoable", "redoable", "depth"],
 }
 
 STATIC = [
@@ -143,12 +176,13 @@ STATIC = [
     (Digest, "of_sheet"), (Digest, "of_pen"), (Digest, "of_path"), (Digest, "of_views"), (Form, "of_script"),
     (Blend, "of_script"), (Blend, "of_form"),
 ]
-OF_THE_CLASS = [(Sheet, "read"), (Sheet, "of"), (Path, "read"), (Script, "read")]
+OF_THE_CLASS = [(Sheet, "read"), (Sheet, "of"), (Path, "read"), (Script, "read"), (Desk, "read")]
 
 VIEWS = Views.of_sheet(Sheet.dot())
 SCRIPT = Script([("turn", 1)])
 GROWTH = dot_growth(Sheet.dot(), Pen.even(1))
 DIGEST = Digest(1, [0] * 6, 0)
+DESK = Desk.read("slot a blank\nlayer b times a 2")
 THINGS = [
     Turning(), Spots([(0, 0, 1)]), Pen.even(1), Sheet.dot(), Path([(0, 1)]), VIEWS, Row([(0, "d", 1)]), DIGEST, GROWTH,
     SCRIPT, Form.of_script(SCRIPT), Blend.of_script(SCRIPT),
@@ -240,6 +274,16 @@ class EqualityTest(unittest.TestCase):
             self.assertIs(thing != thing, False)
 
 
+class OperandsTest(unittest.TestCase):
+    def test_objects_of_unlike_classes(self):
+        for first in THINGS:
+            for second in THINGS:
+                if type(first) is not type(second):
+                    for call in (lambda: first + second, lambda: first - second, lambda: first * second):
+                        with self.assertRaises(TypeError):
+                            call()
+
+
 class KindsOfResultsTest(unittest.TestCase):
     def test_tuples(self):
         pen, path = Pen.even(1), Path([(0, 1)])
@@ -249,7 +293,8 @@ class KindsOfResultsTest(unittest.TestCase):
             spots.box(), spots.single(), Turning().place_to((0, 1)), Turning().cell_to((0, 1, "e")),
             VIEWS.heaps, VIEWS.box(), weights(Sheet.dot()), pen_of(Sheet.dot()), shadows(Sheet()), parted(Sheet()),
             parted(Sheet())[0], parted(Sheet())[1], DIGEST.moments, GROWTH.halves, SCRIPT.deeds, SCRIPT.deeds[0],
-            one_to_one(Form(Turning(), Sheet(), Sheet())),
+            one_to_one(Form(Turning(), Sheet(), Sheet())), DESK.drawing.slots, DESK.drawing.layers,
+            DESK.drawing.deed("b"),
         ):
             self.assertIs(type(value), tuple)
 
@@ -257,7 +302,7 @@ class KindsOfResultsTest(unittest.TestCase):
         broken = Views([Spots([(0, 0, 1)])] + [Spots()] * 5).broken()
         ends = [Row.stretch(0, 1).ahead(), Row.stretch(0, 1).behind()]
         values = [rising(0, (0, 0)), Spots([(0, 0, 1)]).sums(0), Path().knees(), broken, blank_views(Sheet())] + ends
-        values.append(test_sheets())
+        values += [test_sheets(), DESK.put("a", Sheet.dot()), DESK.undo(), DESK.redo(), DESK.drawing.fill()]
         for value in values:
             self.assertIs(type(value), list)
         for value in (broken[0], ends[0][0], ends[1][0]):

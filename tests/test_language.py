@@ -117,6 +117,11 @@ def has_decorator(function, *names):
     return any(isinstance(item, ast.Name) and item.id in names for item in function.decorator_list)
 
 
+def is_setter(function):
+    """True if the function is the setter of a property."""
+    return any(isinstance(item, ast.Attribute) for item in function.decorator_list)
+
+
 def is_generator(function):
     return any(isinstance(node, (ast.Yield, ast.YieldFrom)) for node in ast.walk(function))
 
@@ -305,6 +310,11 @@ class StatementsTest(unittest.TestCase):
             if isinstance(node, ast.Compare) and isinstance(node.ops[0], (ast.Is, ast.IsNot)):
                 self.assertIsInstance(node.comparators[0], ast.Constant, name)
 
+    def test_not_implemented(self):
+        for name, node in everything():
+            if isinstance(node, ast.Name) and node.id == "NotImplemented":
+                self.assertIsInstance(PARENTS[node], ast.Return, (name, node.lineno))
+
     def test_in_place_assignments(self):
         # Beside operators, `+=` is free for literal integers alone.
         for name, node in everything():
@@ -319,6 +329,28 @@ class StatementsTest(unittest.TestCase):
             if isinstance(node, ast.ExceptHandler):
                 self.assertIsInstance(node.type, ast.Name, name)
                 self.assertNotIn(node.type.id, ("Exception", "ValueError", "LookupError", "IndexError"), name)
+
+    def test_caught_errors(self):
+        for name, tree in TREES.items():
+            for _, function in functions_of(tree):
+                handlers = [node for node in ast.walk(function) if isinstance(node, ast.ExceptHandler)]
+                for handler in handlers:
+                    self.assertEqual(own_names(function).count(handler.name), 1 if handler.name else 0, function.name)
+                for node in ast.walk(function):
+                    if isinstance(node, ast.Raise) and node.cause is not None:
+                        self.assertIn(getattr(node.cause, "id", None), [handler.name for handler in handlers], name)
+
+    def test_super(self):
+        # Only as `super().__init__(..)` in an `__init__`.
+        for name, node in everything():
+            if isinstance(node, ast.Name) and node.id == "super":
+                call = PARENTS[node]
+                above = PARENTS[call]
+                self.assertEqual((call.args, above.attr), ([], "__init__"), name)
+                self.assertIsInstance(PARENTS[above], ast.Call, name)
+                while not isinstance(above, ast.FunctionDef):
+                    above = PARENTS[above]
+                self.assertEqual(above.name, "__init__", name)
 
     def test_iterated_at_once(self):
         for name, node in everything():
@@ -365,12 +397,18 @@ class ClassesTest(unittest.TestCase):
     def test_methods(self):
         for owner in self.classes():
             methods = [node for node in owner.body if isinstance(node, ast.FunctionDef)]
-            names = [method.name for method in methods]
+            names = [method.name for method in methods if not is_setter(method)]
             self.assertEqual(len(names), len(set(names)), owner.name)
             for method in methods:
                 if method.name.startswith("__"):
                     self.assertIn(method.name, DOUBLE, owner.name)
                     self.assertFalse(method.decorator_list or is_generator(method))
+                self.assertLessEqual(len(method.decorator_list), 1, method.name)
+                if is_setter(method):
+                    self.assertEqual(ast.unparse(method.decorator_list[0]), f"{method.name}.setter")
+                    self.assertEqual([item.arg for item in method.args.args], ["self", "value"])
+                    self.assertIn(method.name, names)
+                    continue
                 for decorator in method.decorator_list:
                     self.assertIn(decorator.id, ("property", "staticmethod", "classmethod"))
                 if has_decorator(method, "property", "staticmethod", "classmethod"):
@@ -411,13 +449,14 @@ class ClassesTest(unittest.TestCase):
                         methods.add(node.name)
                 if isinstance(node, ast.Attribute) and isinstance(node.ctx, ast.Store):
                     attributes.add(node.attr)
-                    self.assertEqual(node.value.id, "self", owner.name)
+                    self.assertIsInstance(node.value, ast.Name, owner.name)
+                    self.assertNotIn(node.value.id, [item.name for item in self.classes()], owner.name)
         self.assertFalse(methods & attributes)
         self.assertFalse(methods & special)
         self.assertFalse(attributes & (special | BARRED_ATTRIBUTES))
         self.assertFalse(special & BUILTIN_METHODS)
         read = {node.attr for _, node in everything() if isinstance(node, ast.Attribute)}
-        self.assertFalse(read - methods - special - attributes - BUILTIN_METHODS - {"MOST"})
+        self.assertFalse(read - methods - special - attributes - BUILTIN_METHODS - {"MOST", "setter"})
 
     def test_generators(self):
         generators = [item.name for tree in TREES.values() for _, item in functions_of(tree) if is_generator(item)]

@@ -229,7 +229,8 @@ class TextTest(unittest.TestCase):
             "layblank", "lay\nblank", "blank", "0,0,d:1", "turn 1;", "turn 1;turn 1", "turn 1 ; turn 1", "sum a b",
         ]
         for text in bad:
-            self.assertEqual(refusal(self, BadLine, Script.read, text).at, 0, text)
+            error = refusal(self, BadLine, Script.read, text)
+            self.assertEqual((error.at, error.__cause__), (0, None), text)
             whole = f"turn 1; {text}; spin 1"
             self.assertEqual(refusal(self, BadLine, Script.read, whole).at, 1, text)
 
